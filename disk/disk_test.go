@@ -235,6 +235,20 @@ func TestCopy(t *testing.T) {
 	if !bytes.Equal(reads(t, c), []byte{1, 2, 0, 0}) || !bytes.Equal(reads(t, d), []byte{1, 2, 3, 0}) {
 		t.Error("shared behind the fall")
 	}
+	x := newDisk(t, 4)
+	for i := range 3 {
+		x.Write(i, sector(1))
+	}
+	y := x.Copy()
+	x.Write(3, sector(7))
+	y.Write(3, sector(8))
+	for _, z := range []*disk.Disk{x, y} {
+		z.Crash([]byte{8})
+		z.Reboot()
+	}
+	if !bytes.Equal(reads(t, x), []byte{0, 0, 0, 7}) || !bytes.Equal(reads(t, y), []byte{0, 0, 0, 8}) {
+		t.Error("pending writes are shared")
+	}
 	d.Flush()
 	d.Turn(0, 0)
 	e := d.Copy()

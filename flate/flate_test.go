@@ -280,7 +280,61 @@ func samples() [][]byte {
 	big := make([]byte, 40000)
 	r.Read(big)
 	copy(big[39000:], big[100:1100])
-	return append(out, big)
+	return append(out, big, skewed(20, 32, 40000), skewed(21, 10, 40000))
+}
+
+// skewed are bytes of which the small ones stand far more often.
+func skewed(seed int64, base float64, n int) []byte {
+	r := rand.New(rand.NewSource(seed))
+	b := make([]byte, n)
+	for i := range b {
+		b[i] = byte(min(r.ExpFloat64()*base, 255))
+	}
+	return b
+}
+
+// P7.2: codes of all lengths up to 15, and codes of lengths that would be longer than 7 bits.
+func TestLongCodes(t *testing.T) {
+	met := map[int]int{}
+	for seed := range int64(500) {
+		b := skewed(seed, 8+float64(seed%40), 6000)
+		if seed < 12 {
+			b = skewed(seed, 10+3*float64(seed), 40000)
+		}
+		tokens, _ := lz.Find(b)
+		lits, far := ownLengths(tokens)
+		weights := make([]int, 19)
+		for _, p := range byRuns(append(slices.Clone(lits), far...)) {
+			weights[p.symbol]++
+		}
+		seven, _ := huff.Lengths(weights, 7)
+		free, _ := huff.Lengths(weights, 15)
+		cut := !slices.Equal(seven, free)
+		if cut {
+			met[16]++
+		}
+		for _, n := range lits {
+			met[n]++
+		}
+		if seed >= 12 && !cut {
+			continue
+		}
+		d, e := flate.Deflate(b)
+		if want := byWords(b)[2].bytes(); e != api.OK || !bytes.Equal(d, want) {
+			t.Errorf("seed %d: %d", seed, e)
+		}
+		if x, err := io.ReadAll(std.NewReader(bytes.NewReader(d))); err != nil || !bytes.Equal(x, b) {
+			t.Errorf("seed %d: %v", seed, err)
+		}
+		if x, _, e := flate.Inflate(d, len(b)); e != api.OK || !bytes.Equal(x, b) {
+			t.Errorf("seed %d: %d", seed, e)
+		}
+	}
+	for n := 2; n <= 16; n++ {
+		if met[n] == 0 {
+			t.Errorf("%d is never met", n)
+		}
+	}
 }
 
 // P7.2: the block with the fewest bits, bit by bit.

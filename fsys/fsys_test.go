@@ -166,6 +166,17 @@ func TestBytes(t *testing.T) {
 	}
 }
 
+// The words: blocks and sizes that take two bytes.
+func TestMany(t *testing.T) {
+	f := fresh(t, 800, 6, 8)
+	big := strings.Repeat("abcdefg", 9362) // 65534 bytes
+	do(t, f, create("a", big), create("b", "x"+big))
+	g := open(t, f.Disk())
+	if !maps.Equal(all(t, g), map[string]string{"a": big, "b": "x" + big}) || g.Blocks("b")[255] != 511 || g.Used() != 512 {
+		t.Error("two of 256 blocks")
+	}
+}
+
 // P16.2: which blocks are taken: the least that no file had ahead, by the names at the end.
 func TestBlocks(t *testing.T) {
 	f := fresh(t, 40, 6, 2)
@@ -240,6 +251,13 @@ func TestTableFull(t *testing.T) {
 	do(t, f, remove(name(0)), create(strings.Repeat("n", 37), ""))
 	if e := f.Do([]fsys.Change{rename(name(1), strings.Repeat("n", 41))}); e != api.ErrSpace {
 		t.Error("2 bytes more", e)
+	}
+	do(t, f, rename(name(1), strings.Repeat("n", 39)))
+	if e := f.Do([]fsys.Change{rename(name(2), strings.Repeat("n", 38))}); e != api.ErrSpace {
+		t.Error("a byte more", e)
+	}
+	if got := open(t, f.Disk()).List(); !slices.Equal(got, f.List()) {
+		t.Error(got)
 	}
 	g := fresh(t, 100, 60, 30)
 	var l []fsys.Change
@@ -350,6 +368,33 @@ func TestOpenEdges(t *testing.T) {
 	}
 	if e := try(20, 1, append([]byte{0, 4}, cut...)); e != api.ErrForm {
 		t.Error("an entry that goes beyond", e)
+	}
+	var exact []byte
+	for i, n := range []int{80, 80, 79} {
+		entry := append([]byte{byte(n)}, bytes.Repeat([]byte{byte('a' + i)}, n)...)
+		exact = append(exact, append(entry, 0, 0, 0, 0)...)
+	}
+	if e := try(20, 1, append([]byte{0, 3}, exact...)); e != api.OK {
+		t.Error("256 bytes", e)
+	}
+	if e := try(20, 1, append([]byte{0, 4}, exact...)); e != api.ErrForm {
+		t.Error("an entry behind the end", e)
+	}
+	for meta, want := range map[int]api.Errno{200: api.OK, 201: api.ErrForm} {
+		d, _ := disk.New(400)
+		fsys.Format(d, 4, 200)
+		d.Write(6, padded('A', 'F', 0, byte(meta)))
+		if _, e := fsys.Open(d); e != want {
+			t.Errorf("a table of %d: %d", meta, e)
+		}
+	}
+	d, _ := disk.New(20)
+	fsys.Format(d, 4, 2)
+	for meta, want := range map[int]api.Errno{12: api.OK, 13: api.ErrForm, 14: api.ErrForm, 199: api.ErrForm} {
+		d.Write(6, padded('A', 'F', 0, byte(meta)))
+		if _, e := fsys.Open(d); e != want {
+			t.Errorf("a table of %d, on few sectors: %d", meta, e)
+		}
 	}
 	for count, want := range map[int]api.Errno{400: api.OK, 401: api.ErrForm} {
 		table := []byte{byte(count >> 8), byte(count)}

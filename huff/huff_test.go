@@ -174,6 +174,9 @@ func TestCodes(t *testing.T) {
 	if c, e := huff.Codes([]int{15, 1, 15}); e != api.OK || !slices.Equal(c, []huff.Code{{1 << 14, 15}, {0, 1}, {1<<14 + 1, 15}}) {
 		t.Errorf("%v, %d", c, e)
 	}
+	if c, e := huff.Codes([]int{0, 0, 1, 0, 1, 0}); e != api.OK || !slices.Equal(c, []huff.Code{{}, {}, {0, 1}, {}, {1, 1}, {}}) {
+		t.Errorf("%v, %d", c, e)
+	}
 	for _, w := range []struct {
 		lens []int
 		e    api.Errno

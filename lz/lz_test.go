@@ -95,7 +95,7 @@ func TestFindEdges(t *testing.T) {
 		}
 		b = append(b[:far], "xyz"...)
 		l, _ := lz.Find(b)
-		if last := l[len(l)-1]; (last == lz.Token{Len: 3, Dist: 32768}) != (far == 32768) {
+		if last := l[len(l)-1]; (last == lz.Token{Len: 3, Dist: 32768}) != (far == 32768) || far == 32769 && last != (lz.Token{Byte: 'z'}) {
 			t.Errorf("%d back: %v", far, last)
 		}
 	}

@@ -35,6 +35,7 @@ func good() []struct {
 	small := grey(1, 1)
 	small.Pix[0] = 7
 	wide := obj.Tree{Shape: api.Shape{W: 256, H: 9, Chan: 2, Depth: 16}, Keys: slices.Repeat([]string{key(5)}, 64)}
+	tall := obj.Tree{Shape: api.Shape{W: 3, H: 256, Chan: 1, Depth: 8}, Keys: slices.Repeat([]string{key(6)}, 32)}
 	return []struct {
 		o    obj.Object
 		b    []byte
@@ -43,6 +44,7 @@ func good() []struct {
 		{obj.Tile{Raster: small}, []byte{1, 'R', 0, 1, 0, 1, 1, 8, 7}, nil},
 		{obj.Tree{Shape: small.Shape, Keys: []string{key(0xAB)}}, slices.Concat([]byte{2, 0, 1, 0, 1, 1, 8}, raw(0xAB)), []string{key(0xAB)}},
 		{wide, slices.Concat([]byte{2, 1, 0, 0, 9, 2, 16}, bytes.Repeat([]byte{5}, 64*32)), wide.Keys},
+		{tall, slices.Concat([]byte{2, 0, 3, 1, 0, 1, 8}, bytes.Repeat([]byte{6}, 32*32)), tall.Keys},
 		{obj.Commit{Tree: key(1), Stamp: 1, Author: "u"}, slices.Concat([]byte{3}, raw(1), []byte{0, 0, 0, 0, 0, 0, 1, 0, 1, 'u', 0, 0}), []string{key(1)}},
 		{obj.Commit{Tree: key(1), Parents: []string{key(3), key(2)}, Stamp: 1 << 40, Author: "ä", Text: "a\nb"},
 			slices.Concat([]byte{3}, raw(1), []byte{2}, raw(3), raw(2), []byte{1, 0, 0, 0, 0, 0, 0, 2, 0xC3, 0xA4, 0, 3, 'a', 10, 'b'}), []string{key(1), key(3), key(2)}},
@@ -117,7 +119,7 @@ func TestGood(t *testing.T) {
 			t.Errorf("case %d: %d as", i, n)
 		}
 	}
-	x, _ := obj.AsCommit(good()[4].b)
+	x, _ := obj.AsCommit(good()[5].b)
 	if x.Tree != key(1) || !slices.Equal(x.Parents, []string{key(3), key(2)}) || x.Stamp != 1<<40 || x.Author != "ä" || x.Text != "a\nb" {
 		t.Errorf("%v", x)
 	}
@@ -200,11 +202,11 @@ func TestBytesWrong(t *testing.T) {
 	refuse(t, "tree of too few keys", set(1, 2, 9))
 	refuse(t, "commit of three parents", slices.Concat([]byte{3}, raw(1), []byte{3}, raw(2), raw(3), raw(4), []byte{0, 0, 0, 0, 0, 1, 0, 1, 'u', 0, 0}))
 	refuse(t, "parents alike", slices.Concat([]byte{3}, raw(1), []byte{2}, raw(2), raw(2), []byte{0, 0, 0, 0, 0, 1, 0, 1, 'u', 0, 0}))
-	refuse(t, "stamp 0", set(3, 39, 0))
-	refuse(t, "stamp too great", set(4, 98+5, 1))
-	refuse(t, "stamp far too great", set(3, 34, 255))
-	refuse(t, "author", set(3, 42, ' '))
-	refuse(t, "text", set(4, len(good()[4].b)-1, 0))
+	refuse(t, "stamp 0", set(4, 39, 0))
+	refuse(t, "stamp too great", set(5, 98+5, 1))
+	refuse(t, "stamp far too great", set(4, 34, 255))
+	refuse(t, "author", set(4, 42, ' '))
+	refuse(t, "text", set(5, len(good()[5].b)-1, 0))
 	refuse(t, "nothing", nil)
 }
 

@@ -177,6 +177,36 @@ func TestWrite(t *testing.T) {
 	}
 }
 
+// P19.1: more than 256 objects, and a base that is as far back.
+func TestMany(t *testing.T) {
+	var objs [][]byte
+	for i := range 330 {
+		objs = append(objs, obj.Commit{Tree: sha.Key(nil), Stamp: 1 + i, Author: "u"}.Bytes())
+	}
+	r := rand.New(rand.NewSource(38))
+	noise := make([]byte, 64)
+	r.Read(noise)
+	var low, high []byte
+	for i := 0; len(low) == 0 || len(high) == 0; i++ {
+		b := grey(func(j int) int { return int(noise[j]) + i*(j/63) })
+		if k := sha.Key(b); k < "04" {
+			low = b
+		} else if k > "fc" {
+			high = b
+		}
+	}
+	objs = append(objs, low, high)
+	want, depths := byWords(objs, 10)
+	b, e := pack.Write(objs, 10)
+	if e != api.OK || !bytes.Equal(b, want) || depths[sha.Key(high)] != 1 {
+		t.Fatal(e)
+	}
+	p, e := pack.Open(b)
+	if e != api.OK || p.Verify() != api.OK || p.Find(sha.Key(high))-p.Find(sha.Key(low)) < 256 || p.Depth(sha.Key(high)) != 1 {
+		t.Error(e)
+	}
+}
+
 // P19.1: what can't be packed.
 func TestWriteWrong(t *testing.T) {
 	good := grey(func(i int) int { return i })

@@ -2,6 +2,7 @@ package repo_test
 
 import (
 	"bytes"
+	"math/rand"
 	"slices"
 	"strconv"
 	"strings"
@@ -262,6 +263,11 @@ func TestTwin(t *testing.T) {
 	before := state(t, r)
 	if k, e := r.Commit("main", "u", "", flat(5)); k != "" || e != api.ErrTwin || state(t, r) != before {
 		t.Error("a file", e)
+	}
+	tile = obj.Tile{Raster: flat(7)}.Bytes()
+	ok(t, r.FS().Do([]fsys.Change{{Kind: fsys.Create, Name: "o" + sha.Key(tile)}}))
+	if k, e := r.Commit("main", "u", "", flat(7)); k != "" || e != api.ErrTwin {
+		t.Error("an empty file", e)
 	}
 	commit(t, r, "main", flat(6))
 }
@@ -615,6 +621,69 @@ func TestKeep(t *testing.T) {
 	}
 }
 
+// flatRow is the picture of one tile of a row.
+func flatRow(x byte) api.Raster { return row(string([]byte{x})) }
+
+// P24.6: Collect writes the pack with depth 10; Repack with any up to 50.
+func TestDepths(t *testing.T) {
+	r := usual(t)
+	p := api.Raster{Shape: grey(128, 24), Pix: make([]byte, 128*24)}
+	rnd := rand.New(rand.NewSource(39))
+	noise := make([]byte, 64)
+	rnd.Read(noise)
+	for i := range p.Pix {
+		p.Pix[i] = noise[i/128%8*8+i%8] + byte(rnd.Intn(60)/59)
+	}
+	k := commit(t, r, "main", p)
+	commit(t, r, "gone", flat(1))
+	if r.Repack(51) != api.ErrRange {
+		t.Error("51")
+	}
+	ok(t, r.Repack(50))
+	ok(t, r.Delete(false, "gone"))
+	r.FS().Disk().CrashAt(1, nil)
+	if n, e := r.Collect(); n != 0 || e != api.ErrDown {
+		t.Error("a fall within Collect", n, e)
+	}
+	r.FS().Disk().Reboot()
+	r = open(t, r.FS().Disk())
+	if n, e := r.Collect(); n != 3 || e != api.OK {
+		t.Error("Collect", n, e)
+	}
+	old, _ := pack.Open(file(t, r, "pack"))
+	var objs [][]byte
+	for _, k := range r.Objects() {
+		b, e := old.Get(k)
+		ok(t, e)
+		objs = append(objs, b)
+	}
+	ten, _ := pack.Write(objs, 10)
+	eleven, _ := pack.Write(objs, 11)
+	if !bytes.Equal(file(t, r, "pack"), ten) || bytes.Equal(ten, eleven) {
+		t.Error("depth 10", len(objs))
+	}
+	shows(t, r, k, p)
+}
+
+// P24.4: that there are too many commits goes ahead of one that is not told.
+func TestLimitAhead(t *testing.T) {
+	r := fresh(t, 4096, 160, 150)
+	for i := range 501 {
+		if i == 300 {
+			ok(t, r.Repack(1))
+		}
+		commit(t, r, "b", flat(1))
+	}
+	k := commit(t, r, "a", flat(2))
+	ok(t, r.FS().Do([]fsys.Change{{Kind: fsys.Delete, Name: "o" + k}}))
+	if m, e := r.Merge("a", "b", "u", "", api.Raster{}); e != api.ErrLimit || m.Key != "" {
+		t.Error(e)
+	}
+	if l, e := r.Log("b"); l != nil || e != api.ErrLimit {
+		t.Error("Log", e)
+	}
+}
+
 // P24.6: something live that is not there; Fsck tells it.
 func TestFsck(t *testing.T) {
 	r := usual(t)
@@ -625,6 +694,11 @@ func TestFsck(t *testing.T) {
 	if x, e := r.Fsck(); len(x) != 0 || e != api.OK {
 		t.Error(x, e)
 	}
+	ok(t, r.FS().Do([]fsys.Change{{Kind: fsys.Delete, Name: "o" + tiles[3]}}))
+	if x, e := r.Fsck(); !slices.Equal(x, tiles[3:]) || e != api.OK || r.Repack(5) != api.ErrNone {
+		t.Error("one that is not there", x, e)
+	}
+	ok(t, r.FS().Do([]fsys.Change{{Kind: fsys.Create, Name: "o" + tiles[3], Data: obj.Tile{Raster: flatRow('3')}.Bytes()}}))
 	gone := []string{tiles[3], tiles[0]}
 	slices.Sort(gone)
 	ok(t, r.FS().Do([]fsys.Change{{Kind: fsys.Delete, Name: "o" + gone[0]}, {Kind: fsys.Delete, Name: "o" + gone[1]}}))

@@ -55,6 +55,7 @@ func TestActs(t *testing.T) {
 		{[4]byte{8, 9, 8, 9}, world.Act{Kind: world.Delete, Name: "b"}},
 		{[4]byte{8, 9, 9, 9}, world.Act{Kind: world.Delete, Name: "t0", N: 1}},
 		{[4]byte{9, 2, 99, 9}, world.Act{Kind: world.Merge, Name: "a", Other: "b"}},
+		{[4]byte{9, 0, 0, 0}, world.Act{Kind: world.Merge, Name: "a", Other: "b"}},
 		{[4]byte{10, 3, 100, 9}, world.Act{Kind: world.Merge, Name: "b", Other: "a", Pic: script.Pic(3, 7, 9)}},
 		{[4]byte{9, 255, 255, 200}, world.Act{Kind: world.Merge, Name: "b", Other: "a", Pic: script.Pic(3, 7, 200)}},
 		{[4]byte{11, 9, 8, 2}, world.Act{Kind: world.Log, Name: "a"}},

@@ -132,6 +132,10 @@ func TestStageWrong(t *testing.T) {
 	if k, e := s.Put(f, tile(1)); k != "" || e != api.ErrTwin || s.Len() != 0 {
 		t.Error("another one at its place", e)
 	}
+	write(t, f, map[string][]byte{"o" + key: nil})
+	if k, e := s.Put(f, tile(1)); k != "" || e != api.ErrTwin || s.Len() != 0 {
+		t.Error("an empty file at its place", e)
+	}
 	write(t, f, map[string][]byte{"o" + key: tile(1)})
 	f.Disk().Crash(nil)
 	if k, e := s.Put(f, tile(1)); k != "" || e != api.ErrDown || s.Have(key) {

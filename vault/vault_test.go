@@ -129,6 +129,16 @@ func TestGet(t *testing.T) {
 	if v.Verify() != api.OK {
 		t.Error("Verify")
 	}
+	for _, k := range v.Packed() {
+		if !v.Has(k) {
+			t.Error("Has of a packed one")
+		}
+	}
+	file(t, f, "o"+sha.Key(tile(4)), nil)
+	if b, e := v.Get(sha.Key(tile(4))); b != nil || e != api.ErrSum || !v.Has(sha.Key(tile(4))) {
+		t.Error("an empty file", e)
+	}
+	file(t, f, "o"+sha.Key(tile(4)), tile(4))
 	file(t, f, "o"+sha.Key(tile(2)), tile(9))
 	if b, e := v.Get(sha.Key(tile(2))); b != nil || e != api.ErrSum || v.Verify() != api.ErrSum {
 		t.Error("a file goes ahead of the pack", e)
@@ -257,6 +267,9 @@ func TestRepackEdges(t *testing.T) {
 	loose(t, f, tile(1))
 	if l, e := v.Repack(nil, 5); len(l) != 1 || l[0].Kind != fsys.Delete || l[0].Name != "o"+sha.Key(tile(1)) || e != api.OK {
 		t.Error("nothing live, without a pack", e)
+	}
+	if l, e := v.Repack(keys(tile(1)), 5); len(l) != 2 || l[0].Kind != fsys.Put || l[1].Kind != fsys.Delete || e != api.OK {
+		t.Error("one live", e)
 	}
 	packed(t, f, tile(2))
 	v = open(t, f)

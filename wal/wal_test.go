@@ -135,6 +135,22 @@ func TestMany(t *testing.T) {
 	}
 }
 
+// P15.2: a change of just one descriptor.
+func TestFull(t *testing.T) {
+	d, l := fresh(t, 200, 70)
+	var puts []wal.Put
+	for i := range 64 {
+		puts = append(puts, wal.Put{At: 100 + i, Data: sector(byte(1 + i))})
+	}
+	writes := d.Writes()
+	if e := l.Commit(puts); e != api.OK || d.Writes() != writes+1+64+1+64+1 || !holds(d, 3, sector(1)) || !holds(d, 66, sector(64)) || !holds(d, 67, padded()) {
+		t.Error("64 puts", e)
+	}
+	if b, _ := d.Read(0); b[11] != 65 {
+		t.Error("pos", b[11])
+	}
+}
+
 // P15.2: changes that may not be write nothing.
 func TestCommitWrong(t *testing.T) {
 	d, l := fresh(t, 20, 4)
@@ -208,6 +224,7 @@ func TestMark(t *testing.T) {
 		want bool
 	}{
 		{"good", padded('A', 'C', 0, 0, 0, 0, 0, 1, 0, 0, 0, 2), padded(0, 9, 0, 7), true},
+		{"one put", padded('A', 'C', 0, 0, 0, 0, 0, 1, 0, 0, 0, 1), padded(0, 9), true},
 		{"a sector twice", padded('A', 'C', 0, 0, 0, 0, 0, 1, 0, 0, 0, 2), padded(0, 9, 0, 9), true},
 		{"sign", padded('A', 'Q', 0, 0, 0, 0, 0, 1, 0, 0, 0, 2), padded(0, 9, 0, 7), false},
 		{"seq above", padded('A', 'C', 0, 0, 0, 0, 0, 2, 0, 0, 0, 2), padded(0, 9, 0, 7), false},

@@ -282,6 +282,14 @@ func TestMemory(t *testing.T) {
 	if y := w.Told(); y[0].Key == "x" || y[1].Keys[0] == "x" || y[3].Places[0] != 1 || w.Keys()[0] == "x" {
 		t.Error("shared")
 	}
+	do(t, w, world.Act{Kind: world.Branch, Name: "b", Key: 0})
+	do(t, w, commit("b", "99"))
+	do(t, w, world.Act{Kind: world.Merge, Name: "main", Other: "b"})
+	x = w.Told()
+	x[len(x)-1].Mask[1] = false
+	if y := w.Told(); !y[len(y)-1].Mask[1] {
+		t.Error("a mask is shared")
+	}
 	c := w.Copy()
 	x = c.Told()
 	x[1].Keys[0] = "x"
