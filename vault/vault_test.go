@@ -114,6 +114,13 @@ func TestGet(t *testing.T) {
 			t.Error(i, e)
 		}
 	}
+	g := fresh(t)
+	packed(t, g, tile(1), tile(2), tile(3))
+	for _, k := range open(t, g).Packed() {
+		if !open(t, g).Has(k) || len(open(t, g).Keys()) != 3 {
+			t.Error("Has of one that is only packed")
+		}
+	}
 	for _, k := range []string{"", "x", strings.ToUpper(sha.Key(tile(1))), sha.Key(tile(1))[1:]} {
 		if b, e := v.Get(k); b != nil || e != api.ErrName || v.Has(k) {
 			t.Errorf("%q: %d", k, e)

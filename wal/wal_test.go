@@ -182,7 +182,7 @@ func TestCommitWrong(t *testing.T) {
 	if l.Commit(nil) != api.OK || l.Commit(many) != api.ErrLog || l.Commit([]wal.Put{good}) != api.ErrDown {
 		t.Error("while it is down")
 	}
-	if _, _, e := wal.Open(d); e != api.ErrDown {
+	if l, redone, e := wal.Open(d); l != nil || redone || e != api.ErrDown {
 		t.Error("Open while it is down", e)
 	}
 }
@@ -307,7 +307,10 @@ func TestFalls(t *testing.T) {
 					x := d.Copy()
 					if again > 0 {
 						x.CrashAt(again, []byte{byte(second)})
-						if _, _, e := wal.Open(x); e == api.ErrDown {
+						if l, redone, e := wal.Open(x); e == api.ErrDown {
+							if l != nil || redone {
+								t.Fatal("P0.3: something beside an error")
+							}
 							x.Reboot()
 						}
 						x.CrashAt(again, []byte{byte(7 - second)})
